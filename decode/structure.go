@@ -4,17 +4,9 @@ import (
 	"bytes"
 
 	"arboret/api"
+	"arboret/blob"
 	"arboret/name"
 	"arboret/words"
-)
-
-// The tokens.
-const (
-	begin    = 1
-	end      = 2
-	property = 3
-	nothing  = 4
-	last     = 9
 )
 
 // reader goes through a structure, token by token.
@@ -46,7 +38,7 @@ func readRoot(structure, texts []byte) (api.Node, api.Errno) {
 		if e := r.read(token); e != api.OK {
 			return api.Node{}, e
 		}
-		if token == last {
+		if token == blob.Last {
 			break
 		}
 	}
@@ -61,15 +53,15 @@ func (r *reader) mayStand(token uint32) bool {
 	inNode := len(r.open) > 1
 	kids := len(r.innermost().node.Kids)
 	switch token {
-	case begin:
+	case blob.Begin:
 		return inNode || kids == 0
-	case end:
+	case blob.End:
 		return inNode
-	case property:
+	case blob.Property:
 		return inNode && kids == 0
-	case nothing:
+	case blob.Nothing:
 		return true
-	case last:
+	case blob.Last:
 		return !inNode && kids == 1
 	}
 	return false
@@ -78,25 +70,25 @@ func (r *reader) mayStand(token uint32) bool {
 // read reads a token that may stand where it does, and goes behind it.
 func (r *reader) read(token uint32) api.Errno {
 	switch token {
-	case begin:
+	case blob.Begin:
 		return r.readBegin()
-	case property:
+	case blob.Property:
 		return r.readProperty()
-	case end:
+	case blob.End:
 		r.leave()
 		fallthrough
-	case nothing:
+	case blob.Nothing:
 		fallthrough
-	case last:
+	case blob.Last:
 		// Nothing belongs to these, so that the token ends where its cell does.
-		r.at += cellSize
+		r.at += blob.CellSize
 	}
 	return api.OK
 }
 
 func (r *reader) readBegin() api.Errno {
-	s, ok := words.Text(r.structure, r.at+cellSize)
-	if !ok || !r.goBehind(r.at+cellSize+len(s)+1) {
+	s, ok := words.Text(r.structure, r.at+blob.CellSize)
+	if !ok || !r.goBehind(r.at+blob.CellSize+len(s)+1) {
 		return api.ErrForm
 	}
 	// The root is the first one that is entered, behind the one that it stands in.
@@ -114,9 +106,9 @@ func (r *reader) readBegin() api.Errno {
 }
 
 func (r *reader) readProperty() api.Errno {
-	size, _ := words.Get(r.structure, r.at+cellSize)
-	nameAt, ok := words.Get(r.structure, r.at+2*cellSize)
-	from := r.at + 3*cellSize
+	size, _ := words.Get(r.structure, r.at+blob.CellSize)
+	nameAt, ok := words.Get(r.structure, r.at+2*blob.CellSize)
+	from := r.at + 3*blob.CellSize
 	// The size is held against what is left, as from and size could wrap round together.
 	if !ok || uint64(size) > uint64(len(r.structure)-from) {
 		return api.ErrForm
