@@ -28,13 +28,24 @@ func short(n api.Node) string {
 	return s[:min(len(s), 400)]
 }
 
-// expect asks P10.1's want of a and b, and P10.2's of what comes.
-func expect(t *testing.T, what string, a, b, want api.Node) {
+// expectOnce asks P10.1's want of a and b. It is for those of which P10.2 need not hold: a new node that has two of one
+// name comes as it is, and laid over again the last one's value comes to the first one.
+func expectOnce(t *testing.T, what string, a, b, want api.Node) api.Node {
 	t.Helper()
 	got := Merge(a, b)
 	if !tree.SameNode(got, want) {
 		t.Errorf("%s: %s, not %s", what, short(got), short(want))
 	}
+	if !nothingIsLost(a, got) {
+		t.Errorf("%s: something is lost: %s", what, short(got))
+	}
+	return got
+}
+
+// expect asks P10.1's want of a and b, and P10.2's of what comes.
+func expect(t *testing.T, what string, a, b, want api.Node) {
+	t.Helper()
+	got := expectOnce(t, what, a, b, want)
 	if again := Merge(got, b); !tree.SameNode(again, got) {
 		t.Errorf("%s: laid over twice it is %s, not %s", what, short(again), short(got))
 	}
@@ -173,10 +184,41 @@ func TestTwoOfOneNameLaidOver(t *testing.T) {
 	one := node("k", props(val("a", "3"), val("b", "2")), node("m", props(val("a", "4"))), node("n", nil))
 	expect(t, "nodes, new", node("x", nil), node("", nil, two...), node("x", nil, one, node("l", nil)))
 	expect(t, "nodes that are there", node("x", nil, node("l", nil), node("k", nil)), node("", nil, two...), node("x", nil, node("l", nil), one))
-	// Below a new node too, else laid over twice wouldn't be as once.
-	expect(t, "below a new node", node("x", nil), node("", nil, node("new", twice, two...)), node("x", nil, node("new", once, one, node("l", nil))))
-	expect(t, "far below a new node", node("x", nil), node("", nil, node("new", nil, node("new", twice, two...))), node("x", nil, node("new", nil, node("new", once, one, node("l", nil)))))
 	expect(t, "of both", node("x", props(val("a", "8"), val("a", "9"))), node("", twice), node("x", props(val("a", "3"), val("a", "9"), val("b", "2"))))
+}
+
+// A node of b that is new comes whole, also where two below it have one name.
+func TestNewNodesComeAsTheyAre(t *testing.T) {
+	twice := props(val("a", "1"), val("b", "2"), val("a", "3"))
+	two := []api.Node{node("k", props(val("a", "1"))), node("l", nil), node("k", twice, node("m", nil), node("m", nil)), node("l", nil)}
+	for _, fresh := range []api.Node{
+		node("new", twice),
+		node("new", nil, two...),
+		node("new", twice, two...),
+		node("new", nil, node("new", nil, node("new", twice, two...))),
+		node("", props(val("", ""), val("", "")), node("", nil), node("", nil)),
+	} {
+		expectOnce(t, "below nothing", api.Node{}, node("", nil, fresh), node("", nil, fresh))
+		expectOnce(t, "below the root", full(), node("", nil, fresh), changed(func(n *api.Node) { n.Kids = append(n.Kids, fresh) }))
+		want := changed(func(n *api.Node) {
+			n.Kids[0].Props[1].Value = []byte("1")
+			n.Kids[0].Kids[0].Kids = []api.Node{fresh}
+		})
+		b := node("", nil, node("k", props(val("k", "0"), val("k", "1")), node("leaf@1", nil, fresh)))
+		expectOnce(t, "further down", full(), b, want)
+	}
+}
+
+// A second one of a new one's name is laid over it, and finds in it the first one of each name.
+func TestNewNodesAreLaidOver(t *testing.T) {
+	twice := props(val("a", "1"), val("a", "2"))
+	fresh := node("new", twice, node("k", twice), node("k", nil))
+	second := node("new", props(val("a", "3"), val("b", "4"), val("a", "5")), node("k", props(val("a", "6"))), node("l", twice), node("l", props(val("a", "7"))))
+	want := node("new", props(val("a", "5"), val("a", "2"), val("b", "4")),
+		node("k", props(val("a", "6"), val("a", "2"))), node("k", nil),
+		node("l", props(val("a", "7"), val("a", "2"))))
+	expectOnce(t, "two new ones", node("x", nil), node("", nil, fresh, node("o", nil), second), node("x", nil, want, node("o", nil)))
+	expectOnce(t, "one that is there", node("x", nil, fresh), node("", nil, second), node("x", nil, want))
 }
 
 // chain answers a node with so many levels, each with a property.
@@ -266,10 +308,12 @@ func model(a, b api.Node) api.Node {
 		seen[kid.Name]++
 		switch {
 		case seen[kid.Name] == 1:
+			// The first one of b, if it is new, is what its others of that name come to.
+			over := b.Kids
 			if i >= len(a.Kids) {
-				kid = api.Node{Name: kid.Name}
+				over = b.Kids[i-len(a.Kids)+1:]
 			}
-			c.Kids = append(c.Kids, model(kid, joined(b.Kids, kid.Name)))
+			c.Kids = append(c.Kids, model(kid, joined(over, kid.Name)))
 		case i < len(a.Kids):
 			c.Kids = append(c.Kids, kid)
 		}
@@ -286,6 +330,31 @@ func joined(l []api.Node, name string) api.Node {
 		}
 	}
 	return n
+}
+
+// newArePlain answers whether of each node of b that comes to a as it is all below it have each name once.
+func newArePlain(a, b api.Node) bool {
+	for i, kid := range b.Kids {
+		if tree.Kid(b, kid.Name) != i {
+			continue
+		}
+		base, over := kid, b.Kids[i+1:]
+		if j := tree.Kid(a, kid.Name); j >= 0 {
+			base, over = a.Kids[j], b.Kids
+		} else if !isPlain(kid) {
+			return false
+		}
+		if !newArePlain(base, joined(over, kid.Name)) {
+			return false
+		}
+	}
+	return true
+}
+
+// isPlain answers whether each name is once in n, and below it.
+func isPlain(n api.Node) bool {
+	return len(firsts(n.Props, propName)) == len(n.Props) && len(firsts(n.Kids, nodeName)) == len(n.Kids) &&
+		!slices.ContainsFunc(n.Kids, func(kid api.Node) bool { return !isPlain(kid) })
 }
 
 // randomNode answers a node of few names: mostly one that isn't formed, unless each name shall be there once.
@@ -335,15 +404,15 @@ func nothingIsLost(a, c api.Node) bool {
 
 func TestRandomNodes(t *testing.T) {
 	r := rand.New(rand.NewPCG(10, 10))
-	for i := range 20000 {
-		once := i%2 == 0
-		a, b := randomNode(r, "x", r.IntN(4), once), randomNode(r, "y", r.IntN(4), once)
+	for i := range 30000 {
+		onceA, onceB := i%3 == 0, i%3 <= 1
+		a, b := randomNode(r, "x", r.IntN(4), onceA), randomNode(r, "y", r.IntN(4), onceB)
 		wasA, wasB := tree.CloneNode(a), tree.CloneNode(b)
 		got := Merge(a, b)
 		if want := model(wasA, wasB); !tree.SameNode(got, want) {
 			t.Fatalf("%v over %v: %v, not %v", b, a, got, want)
 		}
-		if again := Merge(got, b); !tree.SameNode(again, got) {
+		if again := Merge(got, b); newArePlain(a, b) && !tree.SameNode(again, got) {
 			t.Fatalf("%v over %v: laid over twice it is %v, not %v", b, a, again, got)
 		}
 		if !nothingIsLost(a, got) {
@@ -353,7 +422,7 @@ func TestRandomNodes(t *testing.T) {
 			t.Fatalf("%v over %v: what was handed in is changed: %v, %v", wasB, wasA, b, a)
 		}
 		got.Name = ""
-		if once && tree.Check(api.Tree{Root: got}) != api.OK {
+		if onceA && onceB && tree.Check(api.Tree{Root: got}) != api.OK {
 			t.Fatalf("%v over %v: %v isn't formed", b, a, got)
 		}
 	}
